@@ -1,0 +1,1 @@
+"""Latefare: a few seats sold turn by turn, as well as can be."""
