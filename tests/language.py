@@ -1,6 +1,7 @@
 """Reads a file of the package and tells where it leaves ../shared/LANGUAGE.md.
 
-It sees most of the rules that a single file can break by its form; it is no stand-in for reading the rules.
+It looks at one file at a time and sees L2 to L10, L12, L14, L15, L17, L19, L20, L25 and L27 in part; the others
+(L11, L13, L16, L18, L21 to L24, L26, L28) it does not see. So it is no stand-in for reading the rules.
 """
 
 import ast
