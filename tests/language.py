@@ -1,7 +1,7 @@
 """Reads a file of the package and tells where it leaves ../shared/LANGUAGE.md.
 
-It looks at one file at a time and sees L2 to L10, L12, L14, L15, L17, L19, L20, L25 and L27 in part; the others
-(L11, L13, L16, L18, L21 to L24, L26, L28) it does not see. So it is no stand-in for reading the rules.
+Of one file it sees L2 to L10, L12, L14, L15, L17, L19, L20, L25 and L27 in part, of all files together L16 and L18 in
+part; the others (L11, L13, L21 to L24, L26, L28) it does not see. So it is no stand-in for reading the rules.
 """
 
 import ast
@@ -39,6 +39,31 @@ def faults(source):
         if type(node).__name__ not in NODES:
             found.append(f"L6/L7 line {line}: {type(node).__name__}")
         found.extend(f"{said} (line {line})" for said in node_faults(node))
+    return found
+
+
+def shared_faults(sources):
+    """The same for the files together, a dict of their texts by their names."""
+    trees = {name: ast.parse(source) for name, source in sources.items()}
+    found = [f"L16: {name} draws from itself" for name in trees if name in drawn_from(name, trees)]
+    nodes = [node for tree in trees.values() for node in ast.walk(tree)]
+    methods = {part.name for node in nodes if isinstance(node, ast.ClassDef) for part in node.body
+               if isinstance(part, ast.FunctionDef)}
+    values = {node.attr for node in nodes if isinstance(node, ast.Attribute) and isinstance(node.ctx, ast.Store)}
+    return found + [f"L18: {name} is a method and a value" for name in sorted(methods & values)]
+
+
+def drawn_from(name, trees):
+    """The files that one draws from, in however many steps."""
+    found = []
+    waiting = [name]
+    while waiting:
+        for node in trees[waiting.pop()].body:
+            if isinstance(node, ast.ImportFrom):
+                drawn = node.module.removeprefix(PACKAGE + ".")
+                if drawn in trees and drawn not in found:
+                    found.append(drawn)
+                    waiting.append(drawn)
     return found
 
 

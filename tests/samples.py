@@ -7,6 +7,7 @@ import random
 
 GREAT = 10 ** 50
 LONG = 10 ** 120 - 1
+LETTERS = "abcdef"
 # The scales are 24, 4, 1; so the first list counts fares of 300 and 120 as 1200 and 480.
 SALE = ([300, 120], [[1, 3, 2], [2, 1, 1]], 1, [0, 0, 0])
 TOLD = [[0, 4800, 6960], [0, 720, 720], [0, 0, 0]]
@@ -54,17 +55,77 @@ def falling_sales():
             yield fares, rows, last, list(itertools.accumulate(steps, initial=ends[0]))
 
 
+def small_offices():
+    """What small offices are made of (seats, fares, turns, rule): all rows of askers can be gone through."""
+    chance = random.Random(10)
+    sizes = ((1, 0, 0), (2, 0, 3), (1, 1, 0), (1, 1, 1), (2, 2, 1), (2, 3, 2), (3, 3, 3), (2, 4, 3), (2, 4, 10))
+    for classes, turns, seats in sizes:
+        for due in (0, 15, 400000, 10 ** 6):
+            fares, rows, last, ends = random_sale(chance, classes, turns, seats, 0)
+            yield seats, fares, rows, random_rule(chance, due)
+
+
+def great_offices():
+    """What offices at the bounds of the document are made of."""
+    chance = random.Random(11)
+    yield 10, [10 ** 6] * 6, [[1000] * 7] * 8, (10, 1000, 1000, 10 ** 6)
+    yield 10, [1, 2, 3, 4, 5, 6], [[1, 0, 2, 0, 3, 0, 1000]] * 8, (0, 1, 1000, 10 ** 6)
+    for classes, turns, seats in ((6, 8, 10), (6, 8, 0), (1, 8, 10), (6, 8, 5), (6, 0, 10), (4, 8, 1), (3, 7, 3)):
+        for due in (0, 15, 400000, 10 ** 6):
+            fares, rows, last, ends = random_sale(chance, classes, turns, seats, 0)
+            yield seats, fares, rows, random_rule(chance, due)
+
+
+def random_rule(chance, due):
+    of = chance.choice([1, 2, 10, 1000])
+    return (chance.choice([0, 0, 1, 2, 3, 10]), chance.randint(0, of), of, due)
+
+
+def rows_of(seats, fares, turns, rule):
+    """What a desk is told for such an office; the classes are called by letters."""
+    rows = [f"class {LETTERS[place]} {fare}" for place, fare in enumerate(fares)]
+    rows += ["turn " + " ".join(str(weight) for weight in row) for row in turns]
+    return rows + ["rule " + " ".join(str(number) for number in rule), f"open {seats}"]
+
+
+def asked_shows(sold, came, of):
+    return [math.comb(sold, many) * came ** many * (of - came) ** (sold - many) for many in range(sold + 1)]
+
+
+def asked_ends(seats, rule):
+    return [asked_end(seats, left, rule) for left in range(seats + 1)]
+
+
+def asked_end(seats, left, rule):
+    room, came, of, due = rule
+    beyond = 0
+    for many, weight in enumerate(asked_shows(seats - left, came, of)):
+        if many > room:
+            beyond += weight * (many - room)
+    return -due * beyond * of ** left
+
+
+def all_askers(fares, turns):
+    """All lists of askers, those of weight 0 too."""
+    return itertools.product(list(range(len(fares))) + [None], repeat=len(turns))
+
+
 def asked_worths(fares, turns, last, ends):
     """The worths by mean coins at each stand, as fractions, brought to the scale only at the end."""
+    table = []
+    for t, numbers in enumerate(mean_worths(fares, turns, last, ends)):
+        scale = last * math.prod(sum(row) for row in turns[t:])
+        table.append([whole(scale * number) for number in numbers])
+    return table
+
+
+def mean_worths(fares, turns, last, ends):
+    """The mean coins at each stand."""
     means = [[fractions.Fraction(end, last) for end in ends]]
     for row in reversed(turns):
         behind = means[0]
         means.insert(0, [mean_of(fares, row, behind, s) for s in range(len(ends))])
-    table = []
-    for t, numbers in enumerate(means):
-        scale = last * math.prod(sum(row) for row in turns[t:])
-        table.append([whole(scale * number) for number in numbers])
-    return table
+    return means
 
 
 def mean_of(fares, row, behind, s):

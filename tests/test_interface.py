@@ -9,6 +9,14 @@ ARGUMENTS = {
     "rules": {"is_taken": "fare scale behind s", "least_fare": "scale behind s", "steps_fall": "ends"},
     "papers": {"first_wrong": "fares turns last ends table"},
     "ways": {"way_worths": "fares turns last ends way", "best_way": "fares turns last ends"},
+    "foresight": {"weight_of": "turns askers", "known_best": "seats fares askers", "foresight_of": "seats fares turns"},
+    "offices": {"Office": "seats fares turns rule"},
+    "texts": {"read_words": "row", "read_number": "word", "read_name": "word"},
+    "desk": {"Desk": ""},
+}
+METHODS = {
+    ("offices", "Office"): {"asked": "asker", "turn": "", "left": "", "coins": "", "paper": "", "came": "number"},
+    ("desk", "Desk"): {"say": "row"},
 }
 
 
@@ -19,6 +27,15 @@ class InterfaceTest(unittest.TestCase):
                 with self.subTest(module=module, name=name):
                     function = getattr(importlib.import_module(f"latefare.{module}"), name)
                     self.assertEqual(list(inspect.signature(function).parameters), arguments.split())
+
+    def test_classes_and_their_methods(self):
+        for (module, name), methods in METHODS.items():
+            own = getattr(importlib.import_module(f"latefare.{module}"), name)
+            self.assertTrue(inspect.isclass(own))
+            for method, arguments in methods.items():
+                with self.subTest(module=module, name=name, method=method):
+                    asked = list(inspect.signature(getattr(own, method)).parameters)
+                    self.assertEqual(asked, ["self"] + arguments.split())
 
 
 if __name__ == "__main__":

@@ -1,24 +1,11 @@
-import math
 import unittest
 
 from latefare.shows import ends_of, is_rule, last_scale, shows_of
+from samples import asked_ends, asked_shows
 
 SIXTY = 10 ** 60 - 1
 LEAST_SIXTY = 10 ** 59
 CHANCES = ((0, 1), (1, 1), (0, 1000), (1000, 1000), (1, 2), (1, 1000), (999, 1000), (3, 7), (500, 1000))
-
-
-def told_shows(sold, came, of):
-    return [math.comb(sold, many) * came ** many * (of - came) ** (sold - many) for many in range(sold + 1)]
-
-
-def told_end(seats, left, rule):
-    room, came, of, due = rule
-    beyond = 0
-    for many, weight in enumerate(told_shows(seats - left, came, of)):
-        if many > room:
-            beyond += weight * (many - room)
-    return -due * beyond * of ** left
 
 
 class IsRuleTest(unittest.TestCase):
@@ -75,7 +62,7 @@ class ShowsTest(unittest.TestCase):
             for came, of in CHANCES:
                 with self.subTest(sold=sold, came=came, of=of):
                     shows = shows_of(sold, came, of)
-                    self.assertEqual(shows, told_shows(sold, came, of))
+                    self.assertEqual(shows, asked_shows(sold, came, of))
                     self.assertEqual(sum(shows), of ** sold)
                     self.assertEqual(len(shows), sold + 1)
 
@@ -84,7 +71,7 @@ class ShowsTest(unittest.TestCase):
             given = shows_of(sold, 3, 7)
             given[0] = -1
             given.append(5)
-            self.assertEqual(shows_of(sold, 3, 7), told_shows(sold, 3, 7))
+            self.assertEqual(shows_of(sold, 3, 7), asked_shows(sold, 3, 7))
 
 
 class EndsTest(unittest.TestCase):
@@ -104,7 +91,7 @@ class EndsTest(unittest.TestCase):
                         rule = (room, came, of, due)
                         with self.subTest(seats=seats, rule=rule):
                             ends = ends_of(seats, rule)
-                            self.assertEqual(ends, [told_end(seats, left, rule) for left in range(seats + 1)])
+                            self.assertEqual(ends, asked_ends(seats, rule))
                             self.assertEqual(ends[seats], 0)
 
     def test_all_come_and_none_has_room(self):
@@ -124,7 +111,7 @@ class EndsTest(unittest.TestCase):
             given = ends_of(seats, rule)
             given[0] = 1
             given.append(5)
-            self.assertEqual(ends_of(seats, rule), [told_end(seats, left, rule) for left in range(seats + 1)])
+            self.assertEqual(ends_of(seats, rule), asked_ends(seats, rule))
 
 
 class LastScaleTest(unittest.TestCase):
