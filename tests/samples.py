@@ -63,6 +63,9 @@ def small_offices():
         for due in (0, 15, 400000, 10 ** 6):
             fares, rows, last, ends = random_sale(chance, classes, turns, seats, 0)
             yield seats, fares, rows, random_rule(chance, due)
+    # Fares and dues near one another, so that the dues tell whom to take.
+    for room, chances, due in itertools.product((0, 1, 2), ((1, 1), (1, 2), (9, 10)), (8, 30)):
+        yield 3, [20, 7], [[2, 3, 1], [1, 4, 0], [3, 1, 2]], (room,) + chances + (due,)
 
 
 def great_offices():
